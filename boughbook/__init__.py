@@ -1,0 +1,1 @@
+"""Boughbook: books that turn trees into trees."""

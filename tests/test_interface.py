@@ -1,0 +1,41 @@
+import importlib
+import inspect
+import unittest
+
+INTERFACE = {
+    "trees": {
+        "kinds_of": ["pairs"],
+        "many_of": ["kinds", "name"],
+        "fits": ["kinds", "tree"],
+        "knots": ["tree"],
+        "tall": ["tree"],
+        "places": ["tree"],
+        "knot_at": ["tree", "place"],
+        "put_at": ["tree", "place", "other"],
+    },
+    "treetext": {
+        "shown_tree": ["tree"],
+        "read_tree": ["kinds", "text"],
+    },
+    "patterns": {
+        "fits_pattern": ["kinds", "pattern", "states", "kids"],
+        "knots_of": ["pattern"],
+        "tall_of": ["pattern"],
+        "calls_in": ["pattern"],
+        "filled": ["pattern", "table"],
+        "holes_in": ["front"],
+        "lies_on": ["front", "thing"],
+        "common": ["one", "two"],
+        "parts_at": ["front", "thing"],
+        "hung": ["front", "parts"],
+    },
+}
+
+
+class Interface(unittest.TestCase):
+    def test_names_and_arguments(self):
+        for module, functions in INTERFACE.items():
+            held = importlib.import_module("boughbook." + module)
+            for name, arguments in functions.items():
+                told = list(inspect.signature(getattr(held, name)).parameters)
+                self.assertEqual(told, arguments, (module, name))
