@@ -1,6 +1,7 @@
-"""What several tests need: trees and patterns to try, and a way to look at a refusal."""
+"""What several tests need: trees, patterns and books to try, and a way to look at a refusal."""
 
 import itertools
+import random
 
 from boughbook.errors import BookError
 
@@ -52,6 +53,67 @@ def spots(thing):
             for place, part in spots(kid).items():
                 found[(number,) + place] = part
     return found
+
+
+def forked(ends):
+    """The things of the list under as many forks as they need, no taller than may be."""
+    while len(ends) > 1:
+        ends = [("fork", *ends[at:at + 2]) if at + 1 < len(ends) else ends[at] for at in range(0, len(ends), 2)]
+    return ends[0]
+
+
+def ladder(height, name="fork", many=2):
+    """A tree so tall that has very many knots: the same kid stands in all places of its knot."""
+    tree = ("leaf",)
+    for _ in range(height - 1):
+        tree = (name,) + (tree,) * many
+    return tree
+
+
+def plainly_made(book, pattern, kids):
+    """What comes of a pattern whose calls hand on these kids, straight by the document's words."""
+    if pattern[0] == "?":
+        return plainly_turned_by(book, pattern[1], kids[pattern[2]])
+    return pattern[:1] + tuple(plainly_made(book, part, kids) for part in pattern[1:])
+
+
+def plainly_turned_by(book, state, tree):
+    names = [name for name, _ in book[0]]
+    return plainly_made(book, book[3][state][names.index(tree[0])], tree[1:])
+
+
+def plainly_turned(book, tree):
+    return plainly_made(book, book[2], (tree,))
+
+
+def grown(source, tops, most):
+    """Some thing of at most about so many parts; tops are pairs (top, many), some of them with 0."""
+    top, many = source.choice([each for each in tops if each[1] < most])
+    return top + tuple(grown(source, tops, (most - 1) // many) for _ in range(many))
+
+
+def some_pattern(source, outs, states, kids, most):
+    tops = [((name,), many) for name, many in outs]
+    calls = [(("?", state, kid), 0) for state in range(states) for kid in range(kids)]
+    # As many calls as knots to choose from, so that neither is seldom.
+    picked = [source.choice(calls) for _ in tops] if calls else []
+    return grown(source, tops + picked, most)
+
+
+def some_books(many, seed=1, most_states=4, most=7):
+    """So many books, the same ones for the same seed, as tuples that keep to the document's words."""
+    source = random.Random(seed)
+    books = []
+    for _ in range(many):
+        ins = source.choice([KINDS, (("b", 1), ("a", 0)), (("claw", 3), ("leaf", 0), ("bud", 0))])
+        outs = source.choice([KINDS, (("x", 0), ("y", 2)), (("z", 1), ("claw", 3), ("x", 0))])
+        states = source.randint(0, most_states)
+        head = some_pattern(source, outs, states, 1, most)
+        rules = tuple(
+            tuple(some_pattern(source, outs, states, kids, most) for _, kids in ins) for _ in range(states)
+        )
+        books.append((ins, outs, head, rules))
+    return books
 
 
 def check_refused(case, refusal, asked, *things):

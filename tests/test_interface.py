@@ -29,6 +29,21 @@ INTERFACE = {
         "parts_at": ["front", "thing"],
         "hung": ["front", "parts"],
     },
+    "books": {
+        "made_book": ["ins", "outs", "head", "rules"],
+        "states_of": ["book"],
+        "pattern_of": ["book", "state", "name"],
+    },
+    "running": {
+        "turned": ["book", "tree"],
+        "turned_by": ["book", "state", "tree"],
+    },
+    "counting": {
+        "count_of": ["book", "tree"],
+        "count_by": ["book", "state", "tree"],
+        "height_of": ["book", "tree"],
+        "height_by": ["book", "state", "tree"],
+    },
 }
 
 
