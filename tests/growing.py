@@ -6,8 +6,30 @@ import random
 from boughbook.errors import BookError
 
 KINDS = (("leaf", 0), ("twig", 1), ("fork", 2))
+CLAWS = KINDS + (("claw", 3),)
+LEAF = ("leaf",)
 EXAMPLE = ("fork", ("leaf",), ("twig", ("leaf",)))
 EXAMPLE_TEXT = "fork(leaf,twig(leaf))"
+
+
+def call(state, kid=0):
+    return ("?", state, kid)
+
+
+# Books: the first two turn a tree into itself and into its mirror.
+SAME = (KINDS, KINDS, call(0), ((LEAF, ("twig", call(0)), ("fork", call(0), call(0, 1))),))
+MIRROR = (KINDS, KINDS, call(0), ((LEAF, ("twig", call(0)), ("fork", call(0, 1), call(0))),))
+# State 0 leads to the last leaf of the tree and writes nothing on the way.
+LAST = (KINDS, KINDS, call(0), ((LEAF, call(0), call(0, 1)),))
+DOUBLE = (KINDS, KINDS, call(0), ((LEAF, ("fork", call(0), call(0)), ("fork", call(0), call(0, 1))),))
+# The two states call one another by turns.
+TURNS = (
+    KINDS, KINDS, ("fork", call(1), ("twig", call(0))),
+    (
+        (("twig", LEAF), call(1), ("fork", call(1, 1), ("twig", call(0)))),
+        (LEAF, ("fork", call(0), call(1)), ("twig", call(0, 1))),
+    ),
+)
 
 
 def things_of(tops, most):
@@ -114,6 +136,11 @@ def some_books(many, seed=1, most_states=4, most=7):
         )
         books.append((ins, outs, head, rules))
     return books
+
+
+def giving(tree):
+    """A book of no states that turns all trees into the one."""
+    return (KINDS, CLAWS, tree, ())
 
 
 def check_refused(case, refusal, asked, *things):

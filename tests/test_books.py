@@ -3,20 +3,17 @@ import unittest
 
 from boughbook.books import made_book, pattern_of, states_of
 from boughbook.errors import NoBook, NoKinds
-from tests.growing import EXAMPLE, KINDS, broad, chain, check_refused, forked, some_books, spots
+from tests.growing import (
+    CLAWS, DOUBLE, EXAMPLE, KINDS, LAST, LEAF, MIRROR, SAME, TURNS, broad, call, chain, check_refused, forked, giving,
+    some_books, spots,
+)
 
-LEAF = ("leaf",)
-ALL_KINDS = KINDS + (("claw", 3),)
 GREAT_NUMBERS = [10 ** 30, -10 ** 30, 2 ** 63, -2 ** 63, 10 ** 5000, -10 ** 5000]
 # Pairs that are no kinds: none, none without kids, a name twice, a wrong name, a wrong count, too many.
 NO_KINDS = [
     [], [("twig", 1)], [("leaf", 0), ("leaf", 0)], [("Leaf", 0)], [("leaf", 0), ("twig", 4)], [("leaf", -1)],
     [("", 0)], [("abcdefghi", 0)], [(letter, 0) for letter in "abcdefghi"], [("?", 0)],
 ]
-
-
-def call(state, kid=0):
-    return ("?", state, kid)
 
 
 def lists_of(book):
@@ -27,14 +24,14 @@ def lists_of(book):
 
 def with_head(head, states=1):
     """The parts of a book that is right but maybe for its head."""
-    return [KINDS, ALL_KINDS, head, [[LEAF] * 3] * states]
+    return [KINDS, CLAWS, head, [[LEAF] * 3] * states]
 
 
 def with_rule(pattern, number=0, states=1):
     """The parts of a book that is right but maybe for one pattern of its last state."""
     patterns = [LEAF] * 4
     patterns[number] = pattern
-    return [ALL_KINDS, ALL_KINDS, LEAF, [[LEAF] * 4] * (states - 1) + [patterns]]
+    return [CLAWS, CLAWS, LEAF, [[LEAF] * 4] * (states - 1) + [patterns]]
 
 
 def broad_in_calls(calls, knots):
@@ -59,7 +56,7 @@ class Made(unittest.TestCase):
         check_refused(self, NoKinds, made_book, *parts)
 
     def test_a_book_is_told_as_a_tuple_of_tuples(self):
-        for book in some_books(60):
+        for book in some_books(60) + [SAME, MIRROR, LAST, DOUBLE, TURNS, giving(EXAMPLE)]:
             for parts in (list(book), lists_of(book)):
                 told = made_book(*parts)
                 self.assertEqual(told, book)
@@ -81,8 +78,8 @@ class Made(unittest.TestCase):
 
     def test_a_head_without_calls_and_no_states(self):
         for rules in ([], ()):
-            book = made_book(KINDS, ALL_KINDS, EXAMPLE, rules)
-            self.assertEqual(book, (KINDS, ALL_KINDS, EXAMPLE, ()))
+            book = made_book(KINDS, CLAWS, EXAMPLE, rules)
+            self.assertEqual(book, (KINDS, CLAWS, EXAMPLE, ()))
             self.assertEqual(states_of(book), 0)
         self.assertEqual(states_of(made_book(*with_head(EXAMPLE, 3))), 3)
 
@@ -136,7 +133,7 @@ class Made(unittest.TestCase):
             self.check_no_book(with_head(("fork", call(0), call(0, kid))))
 
     def test_a_rule_hands_on_kids_that_there_are(self):
-        for number, (_, many) in enumerate(ALL_KINDS):
+        for number, (_, many) in enumerate(CLAWS):
             for kid in list(range(-4, 6)) + GREAT_NUMBERS:
                 for pattern in (call(0, kid), ("fork", LEAF, call(0, kid))):
                     if 0 <= kid < many:

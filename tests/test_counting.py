@@ -4,9 +4,9 @@ from boughbook.counting import count_by, count_of, height_by, height_of
 from boughbook.running import turned
 from boughbook.trees import knots, tall
 from tests.growing import (
-    EXAMPLE, KINDS, broad, chain, forked, ladder, plainly_turned, plainly_turned_by, some_books, trees_of,
+    CLAWS, DOUBLE, EXAMPLE, KINDS, LAST, LEAF, MIRROR, SAME, TURNS, broad, call, chain, forked, giving, ladder,
+    plainly_turned, plainly_turned_by, some_books, trees_of,
 )
-from tests.test_running import CLAWS, DOUBLE, LAST, LEAF, MIRROR, SAME, TURNS, call, giving
 
 SAME_CLAWS = (CLAWS, CLAWS, call(0), (SAME[3][0] + (("claw", call(0), call(0, 1), call(0, 2)),),))
 

@@ -44,6 +44,20 @@ INTERFACE = {
         "height_of": ["book", "tree"],
         "height_by": ["book", "state", "tree"],
     },
+    "peeking": {
+        "peeked": ["book", "tree", "place"],
+        "peeked_by": ["book", "state", "tree", "place"],
+    },
+    "sharing": {
+        "shared_row": ["tree"],
+        "shared": ["book", "tree"],
+        "unshared": ["pair"],
+    },
+    "booktext": {
+        "shown_pattern": ["pattern"],
+        "shown_book": ["book"],
+        "read_book": ["text"],
+    },
 }
 
 

@@ -5,36 +5,9 @@ from boughbook.errors import Great
 from boughbook.running import turned, turned_by
 from boughbook.trees import fits, knots, tall
 from tests.growing import (
-    EXAMPLE, KINDS, broad, chain, check_refused, forked, ladder, plainly_turned, plainly_turned_by, some_books, trees_of,
+    CLAWS, DOUBLE, EXAMPLE, KINDS, LAST, LEAF, MIRROR, SAME, TURNS, broad, call, chain, check_refused, forked, giving,
+    ladder, plainly_turned, plainly_turned_by, some_books, trees_of,
 )
-
-LEAF = ("leaf",)
-CLAWS = KINDS + (("claw", 3),)
-
-
-def call(state, kid=0):
-    return ("?", state, kid)
-
-
-SAME = (KINDS, KINDS, call(0), ((LEAF, ("twig", call(0)), ("fork", call(0), call(0, 1))),))
-MIRROR = (KINDS, KINDS, call(0), ((LEAF, ("twig", call(0)), ("fork", call(0, 1), call(0))),))
-# State 0 leads to the last leaf of the tree and writes nothing on the way.
-LAST = (KINDS, KINDS, call(0), ((LEAF, call(0), call(0, 1)),))
-DOUBLE = (KINDS, KINDS, call(0), ((LEAF, ("fork", call(0), call(0)), ("fork", call(0), call(0, 1))),))
-# State 0 writes a twig for each leaf, state 1 a fork for each twig, by turns.
-TURNS = (
-    KINDS, KINDS, ("fork", call(1), ("twig", call(0))),
-    (
-        (("twig", LEAF), call(1), ("fork", call(1, 1), ("twig", call(0)))),
-        (LEAF, ("fork", call(0), call(1)), ("twig", call(0, 1))),
-    ),
-)
-
-
-def giving(tree):
-    """A book of no states that turns all trees into the one."""
-    return made_book(KINDS, CLAWS, tree, [])
-
 
 def hung_on(head, tree):
     """A book that turns a leaf into its head with each call replaced by the tree."""
