@@ -11,19 +11,30 @@ MOST_KNOTS = 400
 MOST_CALLS = 200
 
 
+class Measure:
+    """How much of a pattern has been met, held against the bounds of a book's patterns."""
+
+    def __init__(self):
+        self.met_knots = 0
+        self.met_calls = 0
+
+    def takes(self, part, row):
+        """Counts the part, so many rows down; True where all that was met is within the bounds."""
+        if is_call(part):
+            self.met_calls += 1
+        else:
+            self.met_knots += 1
+        return row <= MOST_ROWS and self.met_knots <= MOST_KNOTS and self.met_calls <= MOST_CALLS
+
+
 def is_small(pattern):
     """True where the pattern is within the bounds of a book's patterns."""
-    knots = 0
-    calls = 0
+    measure = Measure()
     ahead = [(pattern, 1)]
     # The walk ends as soon as a bound is passed: what is handed in may have any number of knots.
     while ahead:
         part, row = ahead.pop()
-        if is_call(part):
-            calls += 1
-        else:
-            knots += 1
-        if row > MOST_ROWS or knots > MOST_KNOTS or calls > MOST_CALLS:
+        if not measure.takes(part, row):
             return False
         ahead.extend([(kid, row + 1) for kid in kids_of(part)])
     return True

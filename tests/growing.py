@@ -122,20 +122,52 @@ def some_pattern(source, outs, states, kids, most):
     return grown(source, tops + picked, most)
 
 
+def some_book(source, ins, outs, states, most):
+    """Some book of so many states, as tuples that keep to the document's words."""
+    head = some_pattern(source, outs, states, 1, most)
+    rules = tuple(
+        tuple(some_pattern(source, outs, states, kids, most) for _, kids in ins) for _ in range(states)
+    )
+    return (ins, outs, head, rules)
+
+
 def some_books(many, seed=1, most_states=4, most=7):
-    """So many books, the same ones for the same seed, as tuples that keep to the document's words."""
+    """So many books, the same ones for the same seed."""
     source = random.Random(seed)
     books = []
     for _ in range(many):
         ins = source.choice([KINDS, (("b", 1), ("a", 0)), (("claw", 3), ("leaf", 0), ("bud", 0))])
         outs = source.choice([KINDS, (("x", 0), ("y", 2)), (("z", 1), ("claw", 3), ("x", 0))])
-        states = source.randint(0, most_states)
-        head = some_pattern(source, outs, states, 1, most)
-        rules = tuple(
-            tuple(some_pattern(source, outs, states, kids, most) for _, kids in ins) for _ in range(states)
-        )
-        books.append((ins, outs, head, rules))
+        books.append(some_book(source, ins, outs, source.randint(0, most_states), most))
     return books
+
+
+def plain_calls(pattern):
+    """The calls of a pattern, by places ascending."""
+    return [part for _, part in sorted(spots(pattern).items()) if part[0] == "?"]
+
+
+def plainly_renamed(pattern, names):
+    if pattern[0] == "?":
+        return call(names.index(pattern[1]), pattern[2])
+    return pattern[:1] + tuple(plainly_renamed(part, names) for part in pattern[1:])
+
+
+def plainly_numbered(ins, outs, head, patterns_of):
+    """The book whose states are what is called, numbered straight by the document's words.
+
+    Calls name other things than numbers; patterns_of tells the list of patterns of a thing.
+    """
+    names = []
+    rows = [[head]]
+    for patterns in rows:
+        for pattern in patterns:
+            for _, name, _ in plain_calls(pattern):
+                if name not in names:
+                    names.append(name)
+                    rows.append(patterns_of(name))
+    rules = tuple(tuple(plainly_renamed(pattern, names) for pattern in patterns) for patterns in rows[1:])
+    return (ins, outs, plainly_renamed(head, names), rules)
 
 
 def giving(tree):

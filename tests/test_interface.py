@@ -58,6 +58,22 @@ INTERFACE = {
         "shown_book": ["book"],
         "read_book": ["text"],
     },
+    "joining": {
+        "same_book": ["kinds"],
+        "joined": ["first", "second"],
+        "trimmed": ["book"],
+    },
+    "whence": {
+        "notes_of": ["book", "wish"],
+        "whence": ["book", "wish"],
+    },
+    "fronts": {
+        "fronts_of": ["book"],
+        "partings_of": ["book"],
+    },
+    "earliest": {
+        "earliest": ["book"],
+    },
 }
 
 

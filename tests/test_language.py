@@ -110,6 +110,7 @@ class Language(unittest.TestCase):
             drawn = {name: [each for each in drawn[name] if each not in free] for name in drawn if name not in free}
 
     def test_names_and_methods(self):
+        own = {each for _, tree in trees() for each in bound_names(tree)}
         for name, tree in trees():
             bound = bound_names(tree)
             for word in bound - {"__init__"}:
@@ -119,8 +120,42 @@ class Language(unittest.TestCase):
                 if isinstance(node, ast.Name):
                     self.assertTrue(node.id in bound or node.id in OWN_NAMES, (name, node.lineno, node.id))
                 if isinstance(node, ast.Call) and isinstance(node.func, ast.Attribute):
-                    own = [each for _, other in trees() for each in bound_names(other)]
-                    self.assertIn(node.func.attr, METHODS + own, (name, node.lineno))
+                    self.assertTrue(node.func.attr in METHODS or node.func.attr in own, (name, node.lineno))
+
+    def test_no_name_is_a_method_and_a_value(self):
+        methods = set()
+        values = set()
+        for _, tree in trees():
+            for made in [node for node in tree.body if isinstance(node, ast.ClassDef)]:
+                methods |= {node.name for node in made.body if isinstance(node, ast.FunctionDef)}
+                values |= {
+                    node.attr for node in ast.walk(made)
+                    if isinstance(node, ast.Attribute) and isinstance(node.ctx, ast.Store)
+                }
+        self.assertEqual(methods & values, set())
+        self.assertEqual(values & set(dir(str) + dir(int) + dir(list) + dir(dict) + dir(set) + dir(bytes)), set())
+
+    def test_what_is_walked_at_once_is_not_kept(self):
+        walkers = ("zip", "enumerate", "reversed", "range", "items", "keys", "values")
+        around = ("list", "tuple", "dict", "sorted", "sum", "any", "all", "enumerate", "zip", "min", "max", "join")
+        for name, tree in trees():
+            walked = set()
+            for node in ast.walk(tree):
+                if isinstance(node, (ast.For, ast.comprehension)):
+                    walked.add(node.iter)
+                if isinstance(node, ast.Call) and node.args:
+                    asked = getattr(node.func, "id", getattr(node.func, "attr", ""))
+                    walked |= set(node.args[:1]) if asked in around else set()
+            for node in ast.walk(tree):
+                if isinstance(node, ast.Call):
+                    asked = getattr(node.func, "id", getattr(node.func, "attr", ""))
+                    self.assertTrue(asked not in walkers or node in walked, (name, node.lineno))
+
+    def test_is_stands_beside_none_true_and_false_alone(self):
+        for name, tree in trees():
+            for node in ast.walk(tree):
+                if isinstance(node, ast.Compare) and isinstance(node.ops[0], (ast.Is, ast.IsNot)):
+                    self.assertIsInstance(node.comparators[0], ast.Constant, (name, node.lineno))
 
     def test_no_local_is_called_like_an_import_or_a_def(self):
         for name, tree in trees():
