@@ -2,7 +2,7 @@
 
 from boughbook.errors import NoBook
 from boughbook.patterns import fits_pattern, is_call
-from boughbook.trees import kids_of, kinds_of, many_of
+from boughbook.trees import kids_of, kinds_of
 
 MOST_STATES = 20
 

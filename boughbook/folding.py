@@ -6,10 +6,7 @@ held against one another by `==`, which is quick for the very same kid.
 """
 
 from boughbook.books import ins_of, rules_of
-from boughbook.running import above
-
-# Stands for the head among the states that are asked.
-HEAD = -1
+from boughbook.running import HEAD, above
 
 
 class Level:

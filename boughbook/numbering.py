@@ -2,19 +2,16 @@
 
 from boughbook.books import MOST_STATES
 from boughbook.errors import Many
-from boughbook.patterns import calls_in, filled
-from boughbook.trees import CALL_SIGN
+from boughbook.patterns import called_in, restated
 
 
 def renamed(pattern, numbers):
     """The pattern with each call's thing replaced by its number; things met first get the next numbers."""
-    table = {}
-    for place, (thing, kid) in calls_in(pattern):
+    for thing, kid in called_in(pattern):
         numbers.setdefault(thing, len(numbers))
-        if len(numbers) > MOST_STATES:
-            raise Many("there would be too many states")
-        table[(thing, kid)] = (CALL_SIGN, numbers[thing], kid)
-    return filled(pattern, table)
+    if len(numbers) > MOST_STATES:
+        raise Many("there would be too many states")
+    return restated(pattern, numbers)
 
 
 def numbered(ins, outs, head, patterns_of):

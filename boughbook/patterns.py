@@ -48,6 +48,11 @@ def calls_in(pattern):
     return [(place, called_by(part)) for place, part in placed(pattern) if is_call(part)]
 
 
+def called_in(pattern):
+    """The list of the pairs (state, kid) of all calls, by places ascending."""
+    return [called_by(part) for part in walked(pattern) if is_call(part)]
+
+
 def holes_in(front):
     """The list of the places of the front's holes, ascending."""
     return [place for place, part in placed(front) if is_hole(part)]
@@ -68,6 +73,14 @@ def filled(pattern, table):
         else:
             tops.append(top_of(part))
     return built(tops)
+
+
+def restated(pattern, names):
+    """The pattern with each call's state replaced by what `names`, a dict or a list, has for it."""
+    table = {}
+    for state, kid in called_in(pattern):
+        table[(state, kid)] = (CALL_SIGN, names[state], kid)
+    return filled(pattern, table)
 
 
 def hung(front, parts):

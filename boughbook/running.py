@@ -8,6 +8,9 @@ from boughbook.trees import CALL_SIGN, built
 MOST_KNOTS = 2000
 TALLEST = 150
 
+# Stands for the head where a state is told.
+HEAD = -1
+
 
 def above(tree):
     """A knot whose one kid is the tree: the kid 0 that the head's calls hand on."""
@@ -19,15 +22,20 @@ def call_of(state):
     return (CALL_SIGN, state, 0)
 
 
+def led_on(book, call, knot):
+    """The pair (part, knot) to which a call leads: the state's pattern for the kid that is handed on, and this kid."""
+    state, kid = called_by(call)
+    handed = knot[kid + 1]
+    return (pattern_of(book, state, handed[0]), handed)
+
+
 def resolved(book, part, knot):
     """The pair (part, knot), led on through calls until the part has a knot at its top.
 
     The part is one of a pattern, the knot the tree whose kids its calls hand on.
     """
     while is_call(part):
-        state, kid = called_by(part)
-        knot = knot[kid + 1]
-        part = pattern_of(book, state, knot[0])
+        part, knot = led_on(book, part, knot)
     return (part, knot)
 
 

@@ -73,7 +73,8 @@ def walked(thing):
     while ahead:
         part = ahead.pop()
         met.append(part)
-        ahead.extend(list(reversed(kids_of(part))))
+        # The kids backwards, so that the first one is met next.
+        ahead.extend(kids_of(part)[::-1])
     return met
 
 
@@ -85,7 +86,7 @@ def placed(thing):
         place, part = ahead.pop()
         met.append((place, part))
         kids = [(place + (number,), kid) for number, kid in enumerate(kids_of(part))]
-        ahead.extend(list(reversed(kids)))
+        ahead.extend(kids[::-1])
     return met
 
 
@@ -98,8 +99,10 @@ def built(tops):
     done = []
     # Backwards, so that all kids are done when their knot is met.
     for top, many in reversed(tops):
-        kids = [done.pop() for number in range(many)]
-        done.append(top + tuple(kids))
+        if many > 0:
+            done.append(top + tuple([done.pop() for number in range(many)]))
+        else:
+            done.append(top)
     return done[0]
 
 

@@ -73,12 +73,12 @@ class Ways:
 
     def take_note(self, note):
         """Makes ready for kids that have this note, which gets the next number."""
-        for needing, agreeing in zip(self.needing, self.agreeing):
+        for kid, needing in enumerate(self.needing):
             against = 0
             for (state, part), bits in needing.items():
                 if note[state] != part:
                     against |= bits
-            agreeing.append(self.all_bits() & ~against)
+            self.agreeing[kid].append(self.all_bits() & ~against)
 
     def rows_with(self, last, sizes):
         """The rows of kids of numbers up to `last` in which the last one stands; sizes are their knots."""

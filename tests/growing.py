@@ -4,6 +4,7 @@ import itertools
 import random
 
 from boughbook.errors import BookError
+from boughbook.trees import put_at
 
 KINDS = (("leaf", 0), ("twig", 1), ("fork", 2))
 CLAWS = KINDS + (("claw", 3),)
@@ -168,6 +169,83 @@ def plainly_numbered(ins, outs, head, patterns_of):
                     rows.append(patterns_of(name))
     rules = tuple(tuple(plainly_renamed(pattern, names) for pattern in patterns) for patterns in rows[1:])
     return (ins, outs, plainly_renamed(head, names), rules)
+
+
+def plainly_filled(pattern, filling):
+    """The pattern with each call replaced by what the function tells for its state and kid."""
+    if pattern[0] == "?":
+        return filling(pattern[1], pattern[2])
+    return pattern[:1] + tuple(plainly_filled(part, filling) for part in pattern[1:])
+
+
+def with_states(book, filling, more=()):
+    """The book with all calls replaced, and more states behind its own."""
+    rules = tuple(tuple(plainly_filled(pattern, filling) for pattern in patterns) for patterns in book[3])
+    return (book[0], book[1], plainly_filled(book[2], filling), rules + tuple(more))
+
+
+def with_copy(source, book):
+    """The book with a state copied, which some of the calls then name in the place of the first one."""
+    copied = source.randrange(len(book[3]))
+
+    def filling(state, kid):
+        return call(len(book[3]) if state == copied and source.random() < 0.5 else state, kid)
+
+    return with_states(book[:3] + (book[3] + (book[3][copied],),), filling)
+
+
+def with_other_numbers(source, book):
+    """The book with its states numbered otherwise."""
+    numbers = list(range(len(book[3])))
+    source.shuffle(numbers)
+    rules = tuple(book[3][numbers.index(state)] for state in range(len(numbers)))
+    return with_states(book[:3] + (rules,), lambda state, kid: call(numbers[state], kid))
+
+
+def with_uncalled(source, book):
+    """The book with a state ahead of its own that nobody else calls."""
+    fresh = tuple(some_pattern(source, book[1], len(book[3]) + 1, kids, 6) for _, kids in book[0])
+    moved = with_states(book, lambda state, kid: call(state + 1, kid))
+    return moved[:3] + ((fresh,) + moved[3],)
+
+
+def put_off(book, part):
+    """The patterns of a state that makes of the one kid that the part hands on what the part makes."""
+    return tuple(
+        plainly_filled(part, lambda state, kid: book[3][state][at]) for at in range(len(book[0]))
+    )
+
+
+def with_put_off(source, book):
+    """The book with a part of a pattern put off into a state of its own, where there is such a part."""
+    found = [(None, book[2], place, 0) for place in spots(book[2])]
+    for state, patterns in enumerate(book[3]):
+        for at, (pattern, (_, many)) in enumerate(zip(patterns, book[0])):
+            found += [((state, at), pattern, place, kid) for place in spots(pattern) for kid in range(many)]
+    source.shuffle(found)
+    for where, pattern, place, kid in found:
+        part = spots(pattern)[place]
+        if part[0] != "?" and all(each[2] == kid for each in plain_calls(part)):
+            return with_pattern(book, where, put_at(pattern, place, call(len(book[3]), kid)), put_off(book, part))
+    return book
+
+
+def with_pattern(book, where, pattern, *more):
+    """The book with another head (None) or pattern (state, number of the kind), and more states behind its own."""
+    if where is None:
+        return book[:2] + (pattern, book[3] + more)
+    rules = [list(patterns) for patterns in book[3]]
+    rules[where[0]][where[1]] = pattern
+    return book[:3] + (tuple(tuple(patterns) for patterns in rules) + more,)
+
+
+def disguised(source, book):
+    """Books that turn every tree as the book does, each made of it in another way or in several ways."""
+    made = [with_uncalled(source, book), with_put_off(source, book), with_other_numbers(source, book)]
+    if book[3]:
+        made.append(with_copy(source, book))
+        made.append(with_other_numbers(source, with_copy(source, with_copy(source, with_put_off(source, book)))))
+    return made
 
 
 def giving(tree):

@@ -6,7 +6,7 @@ from boughbook.books import made_book
 from boughbook.booktext import read_book, shown_book, shown_pattern
 from boughbook.errors import BookError, NoBook, NoKinds, NoText
 from tests.growing import (
-    CLAWS, DOUBLE, EXAMPLE, EXAMPLE_TEXT, KINDS, LAST, LEAF, MIRROR, SAME, TURNS, broad, call, chain, check_refused,
+    CLAWS, DOUBLE, EXAMPLE, EXAMPLE_TEXT, LAST, LEAF, MIRROR, SAME, TURNS, broad, call, chain, check_refused,
     forked, giving, some_books, things_of,
 )
 

@@ -129,7 +129,8 @@ class Earliest(unittest.TestCase):
         self.assertEqual(told, (KINDS, KINDS, ("fork", EXAMPLE, call(0)), SAME[3]))
 
     def test_a_state_that_nobody_calls(self):
-        book = (KINDS, KINDS, call(1), ((LEAF, LEAF, EXAMPLE), (LEAF, ("twig", call(1)), ("fork", call(1), call(1, 1)))))
+        rules = ((LEAF, LEAF, EXAMPLE), (LEAF, ("twig", call(1)), ("fork", call(1), call(1, 1))))
+        book = (KINDS, KINDS, call(1), rules)
         self.assertEqual(self.check_earliest(book), SAME)
 
     def test_one_kind_and_eight(self):

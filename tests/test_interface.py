@@ -2,6 +2,8 @@ import importlib
 import inspect
 import unittest
 
+from boughbook.desk import Desk
+
 INTERFACE = {
     "trees": {
         "kinds_of": ["pairs"],
@@ -74,6 +76,30 @@ INTERFACE = {
     "earliest": {
         "earliest": ["book"],
     },
+    "alike": {
+        "pairs_of": ["one", "two"],
+        "alike": ["one", "two"],
+        "parted": ["one", "two"],
+    },
+    "least": {
+        "least": ["book"],
+        "classes_of": ["book"],
+    },
+    "origins": {
+        "origin_at": ["book", "tree", "place"],
+    },
+    "desk": {
+        "Desk": [],
+    },
+}
+
+DESK = {
+    "take": ["name", "text"],
+    "drop": ["name"],
+    "names": [],
+    "turn": ["names", "text"],
+    "told_alike": ["name", "other"],
+    "told_least": ["name"],
 }
 
 
@@ -84,3 +110,8 @@ class Interface(unittest.TestCase):
             for name, arguments in functions.items():
                 told = list(inspect.signature(getattr(held, name)).parameters)
                 self.assertEqual(told, arguments, (module, name))
+
+    def test_methods_of_the_desk(self):
+        for name, arguments in DESK.items():
+            told = list(inspect.signature(getattr(Desk(), name)).parameters)
+            self.assertEqual(told, arguments, name)

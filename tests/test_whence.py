@@ -317,8 +317,7 @@ class GreatTrees(unittest.TestCase):
         ins = (("leaf", 0),) + tuple((letter, 3) for letter in "abcdefg")
         rules = []
         for state in range(20):
-            more = ("twig", call(state))
-            rules.append((LEAF, more, call(state, 1), call(state, 2), call(state), call(state), call(state), call(state)))
+            rules.append((LEAF, ("twig", call(state)), call(state, 1), call(state, 2)) + (call(state),) * 4)
         book = (ins, KINDS, call(19), tuple(rules))
         wish = chain(29)
         table = notes_of(book, wish)
