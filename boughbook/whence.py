@@ -65,7 +65,7 @@ class Ways:
         if needs is not None:
             for (called, kid), wished in needs.items():
                 bits = self.needing[kid].get((called, wished), 0)
-                self.needing[kid][(called, wished)] = bits | 1 << len(self.pairs)
+                self.needing[kid][(called, wished)] = bits | (1 << len(self.pairs))
             self.pairs.append((state, part))
 
     def all_bits(self):
@@ -98,7 +98,7 @@ class Ways:
         """The note of a knot that goes these ways."""
         note = [-1] * states
         for number, (state, part) in enumerate(self.pairs):
-            if bits >> number & 1:
+            if (bits >> number) & 1 == 1:
                 note[state] = part
         return tuple(note)
 
